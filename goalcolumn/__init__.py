@@ -1,0 +1,1 @@
+"""Goalcolumn: cursors that remember their column."""
