@@ -1,15 +1,13 @@
 """Tells from which starts commands lead to at least a given goal."""
 
-from goalcolumn.checks import check_commands
-from goalcolumn.errors import InvalidNumber
+from goalcolumn.checks import check_commands, check_number
 from goalcolumn.running import reach, row_change
 
 
 def box(commands, goal):
     """Return the conditions on the start and on the lines, or None for "never"."""
     check_commands(commands)
-    if goal < 1:
-        raise InvalidNumber(goal)
+    check_number(goal, 1)
     bounds = {}
     needed = goal
     offset = reach(commands)[2]

@@ -1,6 +1,6 @@
-"""Checks of texts, cursors and commands, which raise the errors for invalid ones."""
+"""Checks of texts, cursors, commands and numbers, which raise the errors for invalid ones."""
 
-from goalcolumn.errors import InvalidCommand, InvalidCursor, InvalidText
+from goalcolumn.errors import InvalidCommand, InvalidCursor, InvalidNumber, InvalidText
 
 WITH_NUMBER = ("down", "up", "right", "left")
 WITHOUT_NUMBER = ("home", "end")
@@ -15,10 +15,10 @@ def check_text(text):
             raise InvalidText(index)
 
 
-def check_cursor(text, cursor):
-    """Raise InvalidCursor if the cursor is on no line or its goal is negative."""
+def check_cursor(lines, cursor):
+    """Raise InvalidCursor if the cursor is on none of so many lines or its goal is negative."""
     row, goal = cursor
-    if not 0 <= row < len(text) or (goal is not None and goal < 0):
+    if not 0 <= row < lines or (goal is not None and goal < 0):
         raise InvalidCursor(cursor)
 
 
@@ -40,3 +40,9 @@ def is_count(number):
     """Whether this is an integer of at least 1."""
     # isinstance alone would take True for the integer 1.
     return isinstance(number, int) and not isinstance(number, bool) and number >= 1
+
+
+def check_number(number, least):
+    """Raise InvalidNumber if the number is less than the least one allowed."""
+    if number < least:
+        raise InvalidNumber(number)

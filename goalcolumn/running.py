@@ -7,7 +7,7 @@ from goalcolumn.errors import Impossible
 def column(text, cursor):
     """Return the column at which a cursor is shown."""
     check_text(text)
-    check_cursor(text, cursor)
+    check_cursor(len(text), cursor)
     row, goal = cursor
     return shown_column(text[row], goal)
 
@@ -15,7 +15,7 @@ def column(text, cursor):
 def run(text, cursor, commands):
     """Return the cursor after the commands."""
     check_text(text)
-    check_cursor(text, cursor)
+    check_cursor(len(text), cursor)
     check_commands(commands)
     place = cursor
     for index, command in enumerate(commands):

@@ -1,6 +1,7 @@
 """What several test files share: a slow model, lists of commands, and ways to compare."""
 
 import itertools
+import random
 
 from goalcolumn import errors
 
@@ -41,6 +42,28 @@ def starts_up_to(lines, longest, goals):
         for row in range(len(text)):
             for goal in goals:
                 yield text, (row, goal)
+
+
+def random_lists(seed, many, size, numbers):
+    """Lists of commands with numbers from a function of the chance, the same in each run of the tests."""
+    chance = random.Random(seed)
+    names = ["down", "up", "right", "left", "right", "left", "home", "end"]
+    for _ in range(many):
+        commands = []
+        for _ in range(chance.randrange(size + 1)):
+            name = chance.choice(names[:6] if chance.random() < 0.9 else names)
+            commands.append((name,) if name in ("home", "end") else (name, numbers(chance, name)))
+        yield chance, commands
+
+
+def small_number(chance, name):
+    """A number of one digit."""
+    return chance.randrange(1, 4)
+
+
+def digits_number(chance, name):
+    """A number of up to thirty digits, but a small one of rows."""
+    return chance.randrange(1, 4) if name in ("down", "up") else chance.randrange(1, 10 ** chance.randrange(1, 31))
 
 
 def slow_run(text, cursor, commands):

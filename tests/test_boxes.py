@@ -1,12 +1,12 @@
 """Point 9 and the section goalcolumn/boxes.py."""
 
-import random
 import unittest
 
 from goalcolumn.boxes import box, least_text
 from goalcolumn.running import reach, run
 from tests.helper import HUGE, NO_COMMANDS, SMALL_COMMANDS
-from tests.helper import assert_example, assert_raises, at_least, lists_up_to, slow_run, starts_up_to
+from tests.helper import assert_example, assert_raises, at_least, digits_number, lists_up_to
+from tests.helper import random_lists, slow_run, small_number, starts_up_to
 
 EXAMPLES = [
     """
@@ -29,26 +29,6 @@ def holds(found, text, cursor):
     start, lines = found
     row, goal = cursor
     return (start is None or at_least(goal, start)) and all(text[row + at] >= bound for at, bound in lines)
-
-
-def random_lists(seed, many, size, numbers):
-    """Lists of commands with numbers from a function of the chance, the same in each run of the tests."""
-    chance = random.Random(seed)
-    names = ["down", "up", "right", "left", "right", "left", "home", "end"]
-    for _ in range(many):
-        commands = []
-        for _ in range(chance.randrange(size + 1)):
-            name = chance.choice(names[:6] if chance.random() < 0.9 else names)
-            commands.append((name,) if name in ("home", "end") else (name, numbers(chance, name)))
-        yield chance, commands
-
-
-def small_number(chance, name):
-    return chance.randrange(1, 4)
-
-
-def digits_number(chance, name):
-    return chance.randrange(1, 4) if name in ("down", "up") else chance.randrange(1, 10 ** chance.randrange(1, 31))
 
 
 class ExamplesTest(unittest.TestCase):
