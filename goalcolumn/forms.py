@@ -55,16 +55,25 @@ def same_effect(first, second):
 def parting(first, second):
     """Return a text and a cursor on which two lists differ, or None if there are none."""
     first_form, second_form = form(first), form(second)
+    if first_form == second_form:
+        return None
     if first_form[0] != second_form[0]:
         return parting_of_reaches(first_form[0], second_form[0])
-    # Where the boxes differ at all, they differ at the beginning of a piece, and then the
-    # smallest start in one of the two boxes is not in the other one.
-    for piece in first_form[1] + second_form[1]:
-        for commands in (first, second):
-            found = least_text(commands, piece[0])
-            if found is not None and differ(found, first, second):
-                return found
-    return None
+    # Where two boxes differ, the smallest start in one of them is not in the other one.
+    goal = differing_goal(first_form[1], second_form[1])
+    found = least_text(first, goal)
+    if found is not None and differ(found, first, second):
+        return found
+    return least_text(second, goal)
+
+
+def differing_goal(first, second):
+    """Return the least goal for which two lists of pieces that differ have different boxes."""
+    same = 0
+    while first[same:same + 1] == second[same:same + 1]:
+        same += 1
+    # Up to here the boxes are the same, and a piece differs from the one before it.
+    return min([piece[0] for piece in first[same:same + 1] + second[same:same + 1]])
 
 
 def parting_of_reaches(first, second):

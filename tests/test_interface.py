@@ -7,10 +7,14 @@ import unittest
 
 from goalcolumn.boxes import box, least_text
 from goalcolumn.counting import count_texts
+from goalcolumn.editors import Editor
 from goalcolumn.forms import form, parting, same_effect
+from goalcolumn.learning import Box, learn
 from goalcolumn.origins import origins
+from goalcolumn.readings import read_commands
 from goalcolumn.repeating import repeat
 from goalcolumn.running import column, places, reach, run
+from goalcolumn.texts import show_commands
 from tests.helper import assert_raises
 
 FUNCTIONS = {
@@ -38,6 +42,20 @@ FUNCTIONS = {
     "counting": {
         "count_texts": ["lines", "longest", "cursor", "commands", "goal"],
     },
+    "learning": {
+        "learn": ["box", "rows", "size"],
+    },
+    "texts": {
+        "show_commands": ["commands"],
+    },
+    "readings": {
+        "read_commands": ["text"],
+    },
+}
+CLASSES = {
+    "learning": ("Box", ["commands"], {"answer": ["self", "text", "cursor"]}, ["questions"]),
+    "editors": ("Editor", ["text", "cursor"], {"press": ["self", "commands"], "undo": ["self"], "trail": ["self"]},
+                ["text", "cursor", "column"]),
 }
 COMMANDS = [("down", 1), ("left", 1), ("up", 1), ("right", 2), ("left", 1)]
 
@@ -51,6 +69,19 @@ class InterfaceTest(unittest.TestCase):
                 function = getattr(module, name)
                 self.assertEqual(function.__module__, "goalcolumn." + file)
                 self.assertEqual(list(inspect.signature(function).parameters), parameters)
+
+    def test_classes_and_methods(self):
+        for file, (name, parameters, methods, properties) in CLASSES.items():
+            kind = getattr(importlib.import_module("goalcolumn." + file), name)
+            self.assertEqual(kind.__module__, "goalcolumn." + file)
+            self.assertEqual(list(inspect.signature(kind).parameters), parameters)
+            for method, names in methods.items():
+                self.assertEqual(list(inspect.signature(vars(kind)[method]).parameters), names)
+            for item in properties:
+                self.assertIs(type(vars(kind)[item]), property)
+        self.assertIs(type(vars(Editor)["at_top"]), classmethod)
+        self.assertEqual(list(inspect.signature(Editor.at_top).parameters), ["text"])
+        self.assertIn("__eq__", vars(Editor))
 
     def test_arguments_by_name_in_any_order(self):
         text, cursor = [5, 2, 9], (1, 4)
@@ -68,6 +99,11 @@ class InterfaceTest(unittest.TestCase):
         self.assertEqual(origins(goal=2, commands=COMMANDS, row=1, text=text), origins(text, 1, COMMANDS, 2))
         self.assertEqual(count_texts(goal=2, commands=COMMANDS, cursor=cursor, longest=4, lines=3),
                          count_texts(3, 4, cursor, COMMANDS, 2))
+        self.assertEqual(learn(size=9, rows=1, box=Box(commands=COMMANDS)), form(COMMANDS))
+        self.assertEqual(Box(COMMANDS).answer(cursor=(0, 4), text=text), run(text, (0, 4), COMMANDS))
+        self.assertEqual(Editor(cursor=cursor, text=text), Editor(text, cursor))
+        self.assertEqual(Editor.at_top(text=text), Editor(text, (0, 0)))
+        self.assertEqual(read_commands(text=show_commands(commands=COMMANDS)), COMMANDS)
         assert_raises(self, "InvalidCommand", 0, same_effect, second=[("right", 0)], first=[])
         assert_raises(self, "InvalidNumber", 0, count_texts, goal=0, commands=[], cursor=(0, 0), longest=1, lines=0)
 
@@ -85,6 +121,9 @@ class InterfaceTest(unittest.TestCase):
                 lambda: parting(commands, COMMANDS), lambda: parting([], commands), lambda: parting(commands, commands),
                 lambda: repeat(text, (1, 4), commands, goal), lambda: repeat(text, (0, None), commands, 10 ** 29),
                 lambda: origins(text, 1, commands, goal), lambda: count_texts(3, 9, (1, 4), commands, goal),
+                lambda: Box(commands).answer(text, (1, 4)), lambda: Box(COMMANDS).answer(text, (0, None)),
+                lambda: learn(Box(commands), 5, 9), lambda: show_commands(commands),
+                lambda: Editor(text, (0, 4)).press(*commands), lambda: Editor.at_top(text).press(*COMMANDS),
             ]:
                 try:
                     call()

@@ -10,6 +10,7 @@ FOLDER = pathlib.Path(__file__).resolve().parent.parent / "goalcolumn"
 BUILTINS = {
     "len", "range", "enumerate", "zip", "min", "max", "sum", "abs", "sorted", "reversed", "int", "str", "bool",
     "list", "tuple", "dict", "set", "isinstance", "repr", "any", "all", "divmod", "ValueError",
+    "property", "classmethod",
 }
 AT_MODULE_LEVEL = (ast.ImportFrom, ast.FunctionDef, ast.ClassDef, ast.Assign, ast.Expr)
 BARRED_WORDS = re.compile(
@@ -95,6 +96,28 @@ class LanguageTest(unittest.TestCase):
             self.assertNotIsInstance(node, ast.Div, name)
             if isinstance(node, ast.Constant):
                 self.assertNotIsInstance(node.value, (float, complex), name)
+
+    def test_l7_l25_a_class_compares(self):
+        # Where a class has __eq__, any, all, min, max, sum and sorted take lists, and nothing is sorted in place.
+        for name, node in nodes():
+            self.assertNotIsInstance(node, ast.GeneratorExp, name)
+            self.assertFalse(isinstance(node, ast.Attribute) and node.attr == "sort", name)
+
+    def test_l5_decorators(self):
+        for name, node in nodes():
+            for decorator in getattr(node, "decorator_list", []):
+                self.assertIn(ast.unparse(decorator), ["property", "classmethod"], name)
+
+    def test_l23_own_generators_are_iterated_at_once(self):
+        parts = [node for _, node in nodes()]
+        generators = {node.name for node in parts if isinstance(node, ast.FunctionDef) and any(
+            isinstance(part, (ast.Yield, ast.YieldFrom)) for part in ast.walk(node))}
+        self.assertEqual(generators, {"places", "trail"})
+        at_once = [node.args[0].func for node in parts if isinstance(node, ast.Call)
+                   and ast.unparse(node.func) == "list" and isinstance(node.args[0], ast.Call)]
+        for node in parts:
+            if isinstance(node, ast.Name) and node.id in generators:
+                self.assertIn(node, at_once)
 
     def test_l8_builtins(self):
         for name, node in nodes():
